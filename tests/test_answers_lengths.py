@@ -3,17 +3,10 @@
 import itertools
 import unittest
 
+from helper import too_many
 from tworeadings.answers import Full, Words
 
 LETTERS = "abcdefghijklmnopqrstuvwxyz"
-
-
-def full_by_the_words_of_the_point(letters, lengths):
-    for count in range(max(lengths, default=0) + 1):
-        begun = sum([letters ** (count - length) for length in lengths if length <= count])
-        if begun > letters ** count:
-            return True
-    return False
 
 
 def words_by_the_words_of_the_point(words, letters, lengths):
@@ -171,7 +164,7 @@ class FullTest(unittest.TestCase):
             for size in range(7):
                 for lengths in itertools.combinations_with_replacement(range(1, 5), size):
                     for turned in (list(lengths), list(reversed(lengths))):
-                        expected = full_by_the_words_of_the_point(letters, turned)
+                        expected = too_many(letters, turned)
                         self.assertIs(Full().shows(letters, turned), expected, (letters, turned))
 
     def test_longer_ones_by_the_words_of_the_point(self):
@@ -179,7 +172,7 @@ class FullTest(unittest.TestCase):
             for step in (1, 2, 3, 7):
                 lengths = [1 + count // letters for count in range(0, 60 * letters, step)]
                 for count in range(0, len(lengths), 5):
-                    expected = full_by_the_words_of_the_point(letters, lengths[:count])
+                    expected = too_many(letters, lengths[:count])
                     self.assertIs(Full().shows(letters, lengths[:count]), expected)
 
     def test_never_both_and_one_of_them(self):

@@ -3,31 +3,12 @@
 import itertools
 import unittest
 
+from helper import are_tails_of, words_up_to
 from tworeadings.answers import Clash, Tails
-
-
-def texts_up_to(letters, most):
-    return ["".join(signs) for count in range(1, most + 1) for signs in itertools.product(letters, repeat=count)]
 
 
 def readings_up_to(count, most):
     return [list(places) for size in range(most + 1) for places in itertools.product(range(count), repeat=size)]
-
-
-def tails_by_the_words_of_the_point(code, tails):
-    if "" in tails:
-        return False
-    for one, first in enumerate(code):
-        for other, second in enumerate(code):
-            if one != other and second[:len(first)] == first and second[len(first):] not in tails:
-                return False
-    for tail in tails:
-        for word in code:
-            if word[:len(tail)] == tail and word[len(tail):] not in tails:
-                return False
-            if tail[:len(word)] == word and tail[len(word):] not in tails:
-                return False
-    return True
 
 
 def rests_that_come_up(code):
@@ -111,7 +92,7 @@ class ClashTest(unittest.TestCase):
 
     def test_all_small_codes_and_readings(self):
         for size in range(3):
-            for code in itertools.product(texts_up_to("ab", 2), repeat=size):
+            for code in itertools.product(words_up_to("ab", 2), repeat=size):
                 for one in readings_up_to(size, 2):
                     for other in readings_up_to(size, 3):
                         same = "".join(code[k] for k in one) == "".join(code[k] for k in other)
@@ -193,17 +174,17 @@ class TailsTest(unittest.TestCase):
         self.assertEqual((code, tails.tails), (["a", "ab"], ["b"]))
 
     def test_all_small_codes_and_tails(self):
-        texts = texts_up_to("ab", 2)
+        texts = words_up_to("ab", 2)
         for size in range(3):
-            for code in itertools.product(texts_up_to("ab", 3), repeat=size):
+            for code in itertools.product(words_up_to("ab", 3), repeat=size):
                 for count in range(len(texts) + 1):
                     for tails in itertools.combinations(texts, count):
-                        expected = tails_by_the_words_of_the_point(list(code), list(tails))
+                        expected = are_tails_of(list(code), list(tails))
                         self.assertIs(Tails(list(tails)).shows(list(code)), expected, (code, tails))
 
     def test_never_both_and_one_of_them(self):
         for size in range(4):
-            for code in itertools.combinations_with_replacement(texts_up_to("ab", 2) + ["aba", "bab"], size):
+            for code in itertools.combinations_with_replacement(words_up_to("ab", 2) + ["aba", "bab"], size):
                 code = list(code)
                 rests = rests_that_come_up(code)
                 known = {}

@@ -2,21 +2,9 @@
 
 import unittest
 
+from helper import NO_LISTS, NO_PLACES, NO_WORDS
 from tworeadings.codes import text_of
 from tworeadings.errors import BadCode, BadPlaces
-
-NO_LISTS = (
-    None, True, False, 0, 7, -1, 1.5, "", "ab", b"ab", (), ("a",), {}, {"a": 1}, {0: "a"}, set(), {"a"},
-    frozenset(["a"]), range(2), object(), object, len, iter(["a"]), (word for word in ["a"]), bytearray(b"a"),
-)
-NO_WORDS = (
-    "", "A", "Z", "aB", " ", "a ", " a", "a b", "a-b", "a1", "1", "`", "{", "a{", "`a", "~", "a\n", "\na", "\t", "a\tb",
-    None, True, False, 0, 1, 1.0, b"a", (), ("a",), [], ["a"], {}, {"a": 1}, {"a"}, object(), str,
-)
-NO_PLACES = (
-    -1, -2, 2, 3, 10 ** 30, -(10 ** 30), True, False, None, 0.0, 1.0, "", "0", "a", b"0", (), (0,), [], [0], {}, {0},
-    object(), int, 1j,
-)
 
 
 class TextOfTest(unittest.TestCase):

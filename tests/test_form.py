@@ -41,6 +41,10 @@ def walked():
     return [(f"{path.name}:{getattr(node, 'lineno', 0)}", node) for path, tree in trees() for node in ast.walk(tree)]
 
 
+def called(node):
+    return node.func.id if isinstance(node.func, ast.Name) else getattr(node.func, "attr", None)
+
+
 class FormTest(unittest.TestCase):
     def test_files_and_signs(self):
         self.assertIn(PACKAGE / "__init__.py", files())
@@ -124,6 +128,60 @@ class FormTest(unittest.TestCase):
         for where, node in walked():
             if isinstance(node, ast.Call) and isinstance(node.func, ast.Attribute):
                 self.assertIn(node.func.attr, METHODS | own, where)
+
+    def test_locals_are_not_called_like_a_class_or_an_import(self):
+        for path, tree in trees():
+            bound = [row.name for row in tree.body if isinstance(row, ast.ClassDef)]
+            bound += [alias.name for row in tree.body if isinstance(row, ast.ImportFrom) for alias in row.names]
+            self.assertEqual(len(set(bound)), len(bound), path.name)
+            for node in ast.walk(tree):
+                if isinstance(node, ast.arg):
+                    self.assertNotIn(node.arg, bound, f"{path.name}:{node.lineno}")
+                if isinstance(node, ast.Name) and isinstance(node.ctx, ast.Store):
+                    self.assertNotIn(node.id, bound, f"{path.name}:{node.lineno}")
+
+    def test_no_name_is_a_method_and_a_value(self):
+        methods = set()
+        values = set()
+        for where, node in walked():
+            if isinstance(node, ast.ClassDef):
+                methods.update(row.name for row in node.body if isinstance(row, ast.FunctionDef))
+            if isinstance(node, ast.Attribute) and isinstance(node.ctx, ast.Store):
+                values.add(node.attr)
+        self.assertEqual(methods & values, set())
+
+    def test_what_is_walked_is_walked_at_once(self):
+        walkers = ("list", "tuple", "dict", "sorted", "sum", "any", "all", "enumerate", "zip", "min", "max", "join")
+        allowed = set()
+        for where, node in walked():
+            if isinstance(node, (ast.For, ast.comprehension)):
+                allowed.add(node.iter)
+            if isinstance(node, ast.Call) and node.args and called(node) in walkers:
+                allowed.add(node.args[0])
+        for where, node in walked():
+            if isinstance(node, ast.Call) and called(node) in (
+                    "zip", "enumerate", "reversed", "range", "items", "keys", "values"):
+                self.assertIn(ast.dump(node), [ast.dump(each) for each in allowed], where)
+
+    def test_sets_numbers_and_texts(self):
+        for where, node in walked():
+            self.assertNotIsInstance(node, ast.Set, where)
+            if isinstance(node, ast.Call):
+                self.assertNotIn(called(node), ("set", "frozenset", "chr"), where)
+            if isinstance(node, ast.Constant) and isinstance(node.value, str):
+                self.assertNotIn("%", node.value, where)
+            if isinstance(node, ast.Compare) and isinstance(node.ops[0], (ast.Is, ast.IsNot)):
+                self.assertIsInstance(node.comparators[0], ast.Constant, where)
+
+    def test_no_two_files_draw_from_one_another(self):
+        drawn = {}
+        for path, tree in trees():
+            drawn[path.stem] = [row.module.split(".")[1] for row in tree.body if isinstance(row, ast.ImportFrom)]
+        while drawn:
+            free = [name for name in drawn if not any(other in drawn for other in drawn[name])]
+            self.assertNotEqual(free, [])
+            for name in free:
+                drawn.pop(name)
 
 
 if __name__ == "__main__":

@@ -39,9 +39,13 @@ def joined(code, places):
     return "".join(words_at(code, places))
 
 
-def text_of(code, places):
-    if not is_code(code):
+def check_code(value):
+    if not is_code(value):
         raise BadCode("no list of words of one letter or more")
+
+
+def text_of(code, places):
+    check_code(code)
     if not are_places(places, len(code)):
         raise BadPlaces("no list of places of the code")
     return joined(code, places)
@@ -51,16 +55,55 @@ def noted(values):
     return dict([(value, True) for value in values])
 
 
+def in_order(values):
+    return sorted(range(len(values)), key=lambda place: values[place])
+
+
+def count_below(values, value):
+    # The values are sorted, so halving finds the first one that is not below.
+    low = 0
+    high = len(values)
+    while low < high:
+        middle = (low + high) // 2
+        if values[middle] < value:
+            low = middle + 1
+        else:
+            high = middle
+    return low
+
+
 def grouped(words):
     groups = {}
-    for word in words:
+    for place, word in enumerate(words):
         if len(word) not in groups:
             groups[len(word)] = {}
-        groups[len(word)][word] = True
+        groups[len(word)].setdefault(word, []).append(place)
     return groups
 
 
+def standing(groups, text, mark):
+    # One look for each length spares a walk over all words. A length beyond the text's end is left
+    # out: cutting and looking up all that is behind each mark would take long in a long text.
+    left = len(text) - mark
+    found = []
+    for length in groups:
+        if length <= left:
+            places = groups[length].get(text[mark:mark + length])
+            if places is not None:
+                found.append((mark + length, places))
+    return found
+
+
 def marks_behind(groups, text, mark):
-    # One look for each length spares a walk over all words; a slice that the text's end
-    # cuts short is too short for its group and so is never found there.
-    return [mark + length for length in groups if text[mark:mark + length] in groups[length]]
+    return [behind for behind, places in standing(groups, text, mark)]
+
+
+def unrolled(chain):
+    # A chain holds its last place and the chain ahead of it, so that many readings share
+    # what they begin with; None is the empty one.
+    places = []
+    while chain is not None:
+        places.append(chain[0])
+        chain = chain[1]
+    places.reverse()
+    return places
